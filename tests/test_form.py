@@ -23,6 +23,9 @@ NOT_WRITTEN = re.compile(r"\b(type|typing|typing_extensions|enum|Enum|IntEnum|St
                          r"|ABC|ABCMeta|namedtuple|NamedTuple|TypedDict|TYPE_CHECKING|abstractmethod)\b"
                          r"|dataclass|overload|contextmanager")
 
+WALKED = ("zip", "enumerate", "reversed", "range")
+WALKERS = ("list", "tuple", "dict", "sorted", "sum", "any", "all", "enumerate", "zip")
+
 
 def files():
     return sorted(path for path in PACKAGE.rglob("*") if path.is_file() and "__pycache__" not in path.parts)
@@ -73,6 +76,41 @@ class Form(unittest.TestCase):
                 self.assertLessEqual(len(node.generators[0].ifs), 1, place)
             if isinstance(node, (ast.For, ast.While)):
                 self.assertEqual(node.orelse, [], place)
+
+    def test_the_top_of_a_file(self):
+        for path, tree in trees().items():
+            self.assertIsInstance(tree.body[0], ast.Expr, path)
+            self.assertIsInstance(tree.body[0].value, ast.Constant, path)
+            for node in tree.body[1:]:
+                self.assertIsInstance(node, (ast.ImportFrom, ast.FunctionDef, ast.ClassDef, ast.Assign), path)
+                if isinstance(node, ast.Assign):
+                    ast.literal_eval(node.value)
+
+    def test_narrower_forms(self):
+        for place, node in all_nodes():
+            if isinstance(node, ast.Assign):
+                self.assertIsInstance(node.targets[0], (ast.Name, ast.Subscript), place)
+            if isinstance(node, ast.FormattedValue):
+                self.assertIsInstance(node.value, ast.Name, place)
+                self.assertIsNone(node.format_spec, place)
+            if isinstance(node, ast.Compare) and isinstance(node.ops[0], (ast.Is, ast.IsNot)):
+                self.assertIn(getattr(node.comparators[0], "value", 0), (None, True, False), place)
+            if isinstance(node, ast.BinOp) and isinstance(node.op, ast.Pow):
+                self.assertIsInstance(node.right, ast.Constant, place)
+            if isinstance(node, ast.Raise):
+                self.assertIsInstance(node.exc, ast.Call, place)
+
+    def test_walked_at_once(self):
+        walked = []
+        for place, node in all_nodes():
+            if isinstance(node, (ast.For, ast.comprehension)):
+                walked.append(node.iter)
+            if isinstance(node, ast.Call) and isinstance(node.func, ast.Name) and node.func.id in WALKERS:
+                walked = walked + node.args[:1]
+        places = [(node.lineno, node.col_offset, ast.dump(node)) for node in walked]
+        for place, node in all_nodes():
+            if isinstance(node, ast.Call) and isinstance(node.func, ast.Name) and node.func.id in WALKED:
+                self.assertIn((node.lineno, node.col_offset, ast.dump(node)), places, place)
 
     def test_names(self):
         for place, node in all_nodes():

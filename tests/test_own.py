@@ -2,10 +2,13 @@
 
 import unittest
 
+from roundsum.areas import double_area, mixed
 from roundsum.errors import RoundError
+from roundsum.notes import read, shown
+from roundsum.parting import parted, steps_of
 from roundsum.shapes import holds, hull, is_shape, reach, sides
 from roundsum.sums import greater, taken_off, together
-from tests.catalog import NO_SHAPES, SHAPES
+from tests.catalog import HEXAGON, HUGE, NO_SHAPES, SHAPES, TRIANGLE
 
 # Among these are calls whose answer is a shape that was handed in.
 ONE_LIST = {
@@ -18,8 +21,13 @@ ONE_LIST = {
     "once": lambda corners: greater(corners, 1),
     "twice": lambda corners: greater(corners, 2),
     "too often": lambda corners: greater(corners, -1),
+    "double_area": double_area,
+    "steps_of": steps_of,
+    "parted": parted,
+    "shown": shown,
+    "shown and read": lambda corners: read(shown(corners)),
 }
-TWO_LISTS = {"together": together, "taken_off": taken_off}
+TWO_LISTS = {"together": together, "taken_off": taken_off, "mixed": mixed}
 
 
 def told(call, *lists):
@@ -29,18 +37,29 @@ def told(call, *lists):
         return error.__class__
 
 
-def told_list(answer):
-    if isinstance(answer, tuple) and isinstance(answer[1], list):
-        return answer[1]
-    return answer if isinstance(answer, list) else None
+def told_lists(answer):
+    things = answer if isinstance(answer, tuple) else (answer,)
+    return [thing for thing in things if isinstance(thing, list)]
+
+
+def copied(lists):
+    return [list(things) for things in lists]
+
+
+def spoil(lists):
+    for things in lists:
+        things.append((99, 99))
+        things[0] = (77, 77)
 
 
 class Own(unittest.TestCase):
     def calls(self):
-        lists = list(SHAPES) + [[(0, 0)]]
+        lists = list(SHAPES) + [[(0, 0)], [(5, 5), (7, 5)]]
         for name, call in ONE_LIST.items():
             for corners in lists + list(NO_SHAPES.values()):
-                yield name, call, [corners]
+                # The steps of this one are more than are ever asked for.
+                if name != "steps_of" or corners != HUGE:
+                    yield name, call, [corners]
         for name, call in TWO_LISTS.items():
             for one in lists:
                 for other in lists + [NO_SHAPES["a dent"], NO_SHAPES["empty"]]:
@@ -49,34 +68,45 @@ class Own(unittest.TestCase):
 
     def test_handed_in_is_not_changed(self):
         for name, call, lists in self.calls():
-            handed = [list(corners) for corners in lists]
+            handed = copied(lists)
             told(call, *handed)
             self.assertEqual(handed, lists, name)
 
     def test_told_is_not_a_list_handed_in_nor_kept(self):
         for name, call, lists in self.calls():
-            handed = [list(corners) for corners in lists]
-            answer = told_list(told(call, *handed))
-            if answer is None:
-                continue
-            was = list(answer)
-            answer.append((99, 99))
-            answer[0] = (77, 77)
+            handed = copied(lists)
+            answers = told_lists(told(call, *handed))
+            were = copied(answers)
+            spoil(answers)
             self.assertEqual(handed, lists, name)
-            self.assertEqual(told_list(told(call, *handed)), was, name)
+            self.assertEqual(told_lists(told(call, *handed)), were, name)
 
     def test_handed_in_may_change_later(self):
         for name, call, lists in self.calls():
-            handed = [list(corners) for corners in lists]
-            answer = told_list(told(call, *handed))
-            if answer is None:
-                continue
-            was = list(answer)
-            for corners in handed:
-                corners.append((99, 99))
-                corners[0] = (77, 77)
-            self.assertEqual(answer, was, name)
-            self.assertEqual(told_list(told(call, *[list(corners) for corners in lists])), was, name)
+            handed = copied(lists)
+            answers = told_lists(told(call, *handed))
+            were = copied(answers)
+            spoil(handed)
+            self.assertEqual(answers, were, name)
+            self.assertEqual(told_lists(told(call, *copied(lists))), were, name)
+
+    def test_no_two_lists_told_are_one(self):
+        for corners in (HEXAGON, TRIANGLE, [(5, 5), (7, 5)], [(0, 0), (2, 0)], [(0, 0), (2, 0), (2, 2), (0, 2)]):
+            one, other = parted(corners)
+            was = list(other)
+            one.append((99, 99))
+            one[0] = (77, 77)
+            self.assertEqual(other, was)
+            again = parted(corners)
+            self.assertEqual(again[1], was)
+            self.assertIsNot(again[1], other)
+
+    def test_what_is_read_is_told_anew_each_time(self):
+        for corners in SHAPES:
+            text = shown(corners)
+            once = read(text)
+            once.append((99, 99))
+            self.assertEqual(read(text), corners)
 
     def test_one_list_in_both_places(self):
         for corners in SHAPES:
@@ -85,12 +115,12 @@ class Own(unittest.TestCase):
             self.assertEqual(handed, corners)
             self.assertEqual(both, greater(corners, 2))
             self.assertEqual(taken_off(handed, handed), ("yes", [(0, 0)]))
+            self.assertEqual(mixed(handed, handed), 2 * double_area(corners))
             self.assertEqual(handed, corners)
 
     def test_kinds(self):
         for name, call, lists in self.calls():
-            answer = told_list(told(call, *[list(corners) for corners in lists]))
-            if answer is not None:
+            for answer in told_lists(told(call, *copied(lists))):
                 self.assertIs(answer.__class__, list, name)
                 for pair in answer:
                     self.assertIs(pair.__class__, tuple, name)

@@ -1,7 +1,7 @@
 import unittest
 from itertools import permutations, product
 
-from roundsum.errors import NoPoints, NoShape
+from roundsum.errors import NoPoints
 from roundsum.shapes import holds, hull, is_shape, reach, sides
 from tests.catalog import (EDGE, FALLING, HEXAGON, HUGE, LEVEL, NO_SHAPES, POINT, RISING, SHAPES, SQUARE, TIPPED,
                            TRIANGLE, UPRIGHT, many_corners, slow_hull, small_shapes, spanned)
@@ -169,13 +169,3 @@ class Reach(unittest.TestCase):
     def test_up_to_the_bounds(self):
         for arrow in ((EDGE, EDGE), (-EDGE, EDGE), (-EDGE, -EDGE), (EDGE, -EDGE)):
             self.assertEqual(reach(HUGE, arrow), 2 * EDGE * EDGE)
-
-
-class Refusals(unittest.TestCase):
-    def test_no_shape(self):
-        for name, corners in NO_SHAPES.items():
-            with self.subTest(name):
-                self.assertRaises(NoShape, sides, corners)
-                self.assertRaises(NoShape, holds, corners, (0, 0))
-                self.assertRaises(NoShape, reach, corners, (1, 0))
-                self.assertRaises(NoShape, reach, corners, (0, 0))

@@ -1,10 +1,10 @@
 import unittest
 from itertools import product
 
-from roundsum.errors import NoNumber, NoShape
+from roundsum.errors import NoNumber
 from roundsum.shapes import hull, is_shape, reach, sides
 from roundsum.sums import greater, taken_off, together
-from tests.catalog import (EDGE, FALLING, HEXAGON, HUGE, LEVEL, NO_SHAPES, POINT, RISING, SHAPES, SQUARE, TIPPED,
+from tests.catalog import (EDGE, FALLING, HEXAGON, HUGE, LEVEL, POINT, RISING, SHAPES, SQUARE, TIPPED,
                            TRIANGLE, UPRIGHT, many_corners, shifted, slow_hull, small_shapes, steps)
 
 ARROWS = list(product(range(-2, 3), range(-2, 3)))
@@ -160,7 +160,8 @@ class TakenOff(unittest.TestCase):
         self.assertEqual(taken_off([(0, 0), (4, 6)], [(0, 0), (12, 8)]), ("no", (3, 2)))
         self.assertEqual(taken_off([(0, 0), (4, 6)], [(0, 0), (-6, 9)]), ("no", (-2, 3)))
         self.assertEqual(taken_off(POINT, [(0, 0), (0, 6)]), ("no", (0, 1)))
-        self.assertEqual(taken_off([(0, 0), (9, 0), (3, 6)], [(0, 0), (6, 0), (2, 4)]), ("yes", [(0, 0), (3, 0), (1, 2)]))
+        self.assertEqual(taken_off([(0, 0), (9, 0), (3, 6)], [(0, 0), (6, 0), (2, 4)]),
+                         ("yes", [(0, 0), (3, 0), (1, 2)]))
 
     def test_what_is_left_is_all_that_it_can_be(self):
         parts = {}
@@ -196,21 +197,3 @@ class TakenOff(unittest.TestCase):
         many = many_corners()
         self.assertEqual(taken_off(greater(many, 1000000), greater(many, 999999)), ("yes", many))
         self.assertEqual(taken_off(many, greater(many, 2)), ("no", sides(many)[0]))
-
-
-class Refusals(unittest.TestCase):
-    def test_no_shape_in_either_place(self):
-        for name, corners in NO_SHAPES.items():
-            for call in (together, taken_off):
-                with self.subTest(name, call=call):
-                    self.assertRaises(NoShape, call, corners, TRIANGLE)
-                    self.assertRaises(NoShape, call, TRIANGLE, corners)
-                    self.assertRaises(NoShape, call, POINT, corners)
-                    self.assertRaises(NoShape, call, corners, POINT)
-                    self.assertRaises(NoShape, call, corners, [])
-
-    def test_no_shape_ahead_of_no_number(self):
-        for name, corners in NO_SHAPES.items():
-            for times in (-1, 0, 1, 2, 1000001):
-                with self.subTest(name, times=times):
-                    self.assertRaises(NoShape, greater, corners, times)
